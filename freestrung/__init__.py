@@ -1,0 +1,1 @@
+"""Freestrung: evenings of marionettes that a crew can play, whatever is called."""
