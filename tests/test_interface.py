@@ -1,0 +1,139 @@
+"""The opening part of the interface: every name where it is listed, with the arguments told."""
+
+import importlib
+import inspect
+import unittest
+
+FUNCTIONS = """
+names is_name(thing)
+pictures is_picture(thing, cast=None)
+pictures pictures(cast)
+pictures holds_in(picture, test)
+pictures fits(picture, deed)
+pictures acted(picture, deed)
+scenetext write_book(book)
+scenetext read_book(lines)
+flows flow(book, scene, picture)
+flows written_out(book, scene)
+playtext write_play(play)
+playtext read_play(lines)
+words reduced(letters)
+words back(word)
+words joined(*words)
+holds is_hold(thing)
+holds lawful(crew, row, hold)
+holds holds(crew, row)
+holds next_holds(crew, row, hold)
+holds far(crew, row, hold, other)
+holds path(crew, row, hold, other)
+holds is_held(hold, name)
+holds is_alone(hold, name)
+holds behind(hold, deed)
+standings is_standing(thing, crew=None)
+standings standing_of(picture)
+standings is_free_standing(standing)
+standings picture_of(standing)
+standings lie_of(standing)
+"""
+
+OPERATORS = {
+    ("casts", "Cast"): "__getitem__ __contains__ __len__ __iter__ __eq__ __add__",
+    ("crews", "Crew"): "__eq__",
+    ("scenes", "Book"): "__getitem__ __contains__ __len__ __iter__ __eq__ __add__",
+    ("flows", "Flow"): "__len__ __iter__ __eq__ __bool__",
+    ("plans", "Plan"): "__getitem__ __contains__ __len__ __iter__ __eq__",
+    ("plays", "Play"): "__eq__",
+    ("lies", "Lie"): "__len__ __getitem__ __iter__ __eq__ __bool__ __mul__ __add__ __neg__",
+}
+
+METHODS = """
+casts Cast __init__(self, puppets)
+casts Cast index_of(self, name)
+crews Crew __init__(self, players, *, reach=1, beats=1, bears=6, winds=1)
+crews Crew covers(self, other)
+crews Crew changed(self, **numbers)
+crews Crew of(numbers)
+scenes Book __init__(self, cast, scenes)
+scenes Book statements(self, name)
+scenes Book calls_of(self, name)
+plans Plan __init__(self, first, ends, calls)
+plans Plan calls_at(self, node)
+plans Plan is_end(self, node)
+plans Plan node_behind(self, row)
+plans Plan is_evening(self, row)
+plays Play __init__(self, book, plan, opening)
+plays Play flow(self, call, picture)
+plays Play changed(self, **parts)
+plays Play picture_behind(self, row)
+lies Lie __init__(self, words)
+lies Lie below(self, place, way)
+lies Lie above(self, place, way)
+lies Lie passed(self, place, top, shown)
+lies Lie back(self)
+lies Lie thinned(self, places)
+lies Lie twist(self, one, other)
+lies Lie of(cords, crossings)
+lies Lie straight(cords)
+lies Lie rounded(cords, place)
+lies Lie is_one(thing)
+"""
+
+PROPERTIES = """
+casts Cast wires
+crews Crew numbers
+plans Plan nodes
+plays Play beginning
+lies Lie tops
+lies Lie even
+lies Lie weight
+"""
+
+STATIC = (("Crew", "of"), ("Lie", "of"), ("Lie", "straight"), ("Lie", "rounded"), ("Lie", "is_one"))
+GENERATORS = (("pictures", "pictures"), ("holds", "holds"))
+
+
+def rows(text):
+    return [line.split(" ", 2) for line in text.strip().split("\n")]
+
+
+def module(name):
+    return importlib.import_module(f"freestrung.{name}")
+
+
+class InterfaceTest(unittest.TestCase):
+    def test_functions(self):
+        for line in FUNCTIONS.strip().split("\n"):
+            place, told = line.split(" ", 1)
+            name, arguments = told.split("(", 1)
+            function = getattr(module(place), name)
+            self.assertTrue(inspect.isfunction(function))
+            self.assertEqual(function.__module__, f"freestrung.{place}")
+            self.assertEqual(str(inspect.signature(function)), f"({arguments}")
+
+    def test_classes_and_methods(self):
+        for place, kind, told in rows(METHODS):
+            name, arguments = told.split("(", 1)
+            owner = getattr(module(place), kind)
+            self.assertEqual(owner.__module__, f"freestrung.{place}")
+            own = vars(owner)[name]
+            self.assertEqual(isinstance(own, staticmethod), (kind, name) in STATIC)
+            function = own.__func__ if isinstance(own, staticmethod) else own
+            self.assertEqual(str(inspect.signature(function)), f"({arguments}")
+
+    def test_operators_stand_in_the_classes(self):
+        for (place, kind), names in OPERATORS.items():
+            for name in names.split(" "):
+                self.assertIn(name, vars(getattr(module(place), kind)))
+
+    def test_properties(self):
+        for place, kind, name in rows(PROPERTIES):
+            self.assertIsInstance(vars(getattr(module(place), kind))[name], property)
+
+    def test_generators(self):
+        for place, name in GENERATORS:
+            self.assertTrue(inspect.isgeneratorfunction(getattr(module(place), name)))
+        self.assertTrue(inspect.isgeneratorfunction(module("scenes").Book.statements))
+
+
+if __name__ == "__main__":
+    unittest.main()
