@@ -41,7 +41,9 @@ class IsStandingTest(Case):
         ):
             for thing in things + NO_ROWS:
                 word = ("row", "faces", "winds", "lie", "hold")[part]
-                self.assertEqual(wrong_part(changed(part, thing)), "faces" if part == 0 and thing in ((), ("king",)) else word)
+                if part == 0 and thing in ((), ("king",)):
+                    word = "faces"
+                self.assertEqual(wrong_part(changed(part, thing)), word)
                 self.assertIs(self.told(changed(part, thing)), False)
                 self.assertIs(self.told(changed(part, thing), Crew(4)), False)
 
