@@ -6,6 +6,7 @@ import unittest
 
 from freestrung.errors import BadCords, BadCrossing, BadLie, BadPlace, BadWay, TooMany, Unlike
 from freestrung.lies import Lie
+from freestrung.tangles import unwinding_row
 from freestrung.words import back, joined, reduced
 from tests.helpers import NO_ROWS, Case, listed, only_tuples
 
@@ -340,6 +341,21 @@ class MadeTest(Case):
                 self.due_as_passed(BadPlace, "place", thing, Lie.rounded, cords, thing)
         self.due(BadPlace(0), Lie.rounded, 1, 0)
         self.due(BadPlace(0), Lie.rounded, 0, 0)
+
+
+class UnwoundTest(Case):
+    def test_at_the_first_place_where_letters_go(self):
+        for cords, row in random_rows(23, 80, longest=16):
+            lie = Lie.of(cords, row)
+            told = []
+            while lie:
+                eased = [(place, way) for place in range(cords - 1) for way in WAYS
+                         if lie.below(place, way).weight < lie.weight]
+                told.append(eased[0])
+                lie = lie.below(*eased[0])
+            words = Lie.of(cords, row).words
+            self.assertEqual(tuple(unwinding_row(words)), tuple(told))
+            self.assertEqual(Lie.of(cords, undone(told)).words, words)
 
 
 class OfLiesTest(Case):
