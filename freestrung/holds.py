@@ -47,17 +47,20 @@ def judge_hold(crew, row, hold):
         raise BadHold(hold)
 
 
+def holds_with(hold, name):
+    """The holds that come about when one bar more is taken into a hand, lawful or not."""
+    found = [ordered(hold + ((name,),))]
+    for number, group in enumerate(hold):
+        if len(group) == 1:
+            found.append(ordered(replaced(hold, number, group + (name,))))
+    return found
+
+
 def all_holds(row):
     """All holds of the bars of a row, lawful or not."""
     found = [()]
     for name in sorted(row):
-        grown = list(found)
-        for hold in found:
-            grown.append(hold + ((name,),))
-            for number, group in enumerate(hold):
-                if len(group) == 1:
-                    grown.append(replaced(hold, number, group + (name,)))
-        found = grown
+        found = found + [other for hold in found for other in holds_with(hold, name)]
     return found
 
 
@@ -72,15 +75,6 @@ def without_bar(hold, name):
     """The hold without the bar of a puppet, which may be in it or not."""
     groups = [[held for held in group if held != name] for group in hold]
     return ordered([group for group in groups if len(group) > 0])
-
-
-def holds_with(hold, name):
-    """The holds that come about when one bar more is taken into a hand, lawful or not."""
-    found = [ordered(hold + ((name,),))]
-    for number, group in enumerate(hold):
-        if len(group) == 1:
-            found.append(ordered(replaced(hold, number, group + (name,))))
-    return found
 
 
 def one_move_on(crew, row, hold):

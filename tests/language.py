@@ -303,16 +303,50 @@ def generator_names(files):
                 yield file, "L23", node.lineno
 
 
+CHANGING = ("append", "clear", "extend", "insert", "pop", "remove", "reverse", "setdefault", "update", "add", "sort")
+COPYING = ("list", "tuple", "sorted", "range", "len")
+
+
+def walked(node):
+    """The names and attributes that a loop goes over when it goes over this, without those that it copies first."""
+    if called_name(node) in COPYING:
+        return set()
+    found = {ast.unparse(node)} if isinstance(node, (ast.Name, ast.Attribute)) else set()
+    return found.union(*[walked(part) for part in ast.iter_child_nodes(node)])
+
+
+def changed_in(rows):
+    """What some rows change: pairs of its name and the node that does."""
+    for node in [part for row in rows for part in ast.walk(row)]:
+        if isinstance(node, ast.Call) and isinstance(node.func, ast.Attribute) and node.func.attr in CHANGING:
+            yield ast.unparse(node.func.value), node
+        if isinstance(node, ast.AugAssign):
+            yield ast.unparse(node.target), node
+        if isinstance(node, ast.Subscript) and not isinstance(node.ctx, ast.Load):
+            yield ast.unparse(node.value), node
+
+
+def namesakes(function, told):
+    """All names and attributes that may be one thing with some of these, by an assignment of the function."""
+    links = [(ast.unparse(target), walked(node.value)) for node in ast.walk(function) if isinstance(node, ast.Assign)
+             and isinstance(node.value, (ast.Name, ast.Attribute, ast.IfExp, ast.BoolOp)) for target in node.targets]
+    found = set(told)
+    for _ in links:
+        for target, sources in links:
+            if sources & found or target in found:
+                found |= sources | {target}
+    return found
+
+
 def changed_loops(files):
-    """What a loop goes over by name is not changed in it."""
-    changing = ("append", "clear", "extend", "insert", "pop", "remove", "reverse", "setdefault", "update", "add")
+    """What a loop goes over is not changed in it, by whatever name."""
     for file in files:
         for loop in file.of(ast.For):
-            over = ast.unparse(loop.iter)
-            for node in [part for row in loop.body for part in ast.walk(row)]:
-                if isinstance(node, ast.Call) and isinstance(node.func, ast.Attribute) and node.func.attr in changing:
-                    if re.search(rf"\b{re.escape(ast.unparse(node.func.value))}\b", over):
-                        yield file, "L23", node.lineno
+            function = file.inside(loop, FUNCTIONS)
+            over = namesakes(function, walked(loop.iter))
+            for name, node in changed_in(loop.body):
+                if name in over:
+                    yield file, "L23", node.lineno
 
 
 def classes(files):

@@ -20,7 +20,18 @@ SPOILT = (
     ("L28", "class A:\n    def __len__(self):\n        return 1 + 1\n"),
     ("L5", "class A:\n    def __hash__(self):\n        return 1\n"),
     ("L23", "def f(x):\n    for y in x:\n        x.append(y)\n"),
+    ("L23", "def f(x):\n    for y in x:\n        z = list(x)\n        for w in x:\n            z.append(w)\n        x = z\n"),
+    ("L23", "def f(x):\n    for y in x.rows:\n        x.rows[0] = y\n"),
+    ("L23", "def f(x, y):\n    z = x or y\n    for w in enumerate(z):\n        y.append(w)\n"),
     ("L19", "def f(x):\n    raise x\n"), ("L12", "def f(x):\n    _ = x\n    return _\n"),
+)
+
+
+FINE = (
+    "def f(x):\n    for y in list(x):\n        x.append(y)\n",
+    "def f(x):\n    z = []\n    for y in x:\n        z.append(y)\n    return z\n",
+    "def f(x):\n    z = list(x)\n    for y in x:\n        z.append(y)\n    return z\n",
+    "def f(x):\n    z = []\n    for y in range(len(z)):\n        z.append(y)\n    return z\n",
 )
 
 
@@ -40,6 +51,10 @@ class LanguageTest(unittest.TestCase):
         for rule, text in SPOILT:
             told = " ".join(found for _, found, _ in faults([("spoilt", text)]))
             self.assertTrue(re.search(rf"\b{rule}\b", told), (rule, text, told))
+
+    def test_fine_files_have_no_faults(self):
+        for text in FINE:
+            self.assertEqual(faults([("fine", text)]), [])
 
 
 if __name__ == "__main__":
