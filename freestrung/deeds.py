@@ -1,6 +1,9 @@
 """Deeds, and the rows of puppets that they can be done in."""
 
+from freestrung.errors import BadDeeds
+from freestrung.forms import is_row
 from freestrung.patterns import matches_one
+from freestrung.rows import exchanged, lengthened, without
 
 DEEDS = (
     "pass NAME NAME SIDE WAY",
@@ -12,6 +15,7 @@ DEEDS = (
 )
 
 MOST_IN_ROW = 4
+MOST_DEEDS = 60
 
 
 def is_deed(thing):
@@ -36,3 +40,37 @@ def fits_row(row, deed):
     if deed[0] == "pass":
         return neighbour(row, deed[1], deed[3]) == deed[2]
     return deed[1] in row
+
+
+def passed_at(row, deed):
+    """The place of the left one of the two puppets that a pass exchanges."""
+    place = row.index(deed[1])
+    return place - 1 if deed[3] == "left" else place
+
+
+def led_along(row, deed, things, entering):
+    """What belongs to the puppets of a row, as a deed leaves it; a puppet that enters brings its own."""
+    if deed[0] == "pass":
+        return exchanged(things, passed_at(row, deed))
+    if deed[0] == "exit":
+        return without(things, row.index(deed[1]))
+    if deed[0] == "enter":
+        return lengthened(things, deed[2], entering)
+    return things
+
+
+def row_behind(row, deed):
+    """The row of puppets behind a deed that fits it."""
+    return led_along(row, deed, row, deed[1] if deed[0] == "enter" else None)
+
+
+def kept_deeds(row, deeds):
+    """The deeds as tuples; raises BadDeeds if they cannot be done one after the other from this row on."""
+    if not is_row(deeds) or len(deeds) > MOST_DEEDS:
+        raise BadDeeds(-1)
+    row = tuple(row)
+    for number, deed in enumerate(deeds):
+        if not is_deed(deed) or not fits_row(row, deed):
+            raise BadDeeds(number)
+        row = row_behind(row, deed)
+    return tuple(tuple(deed) for deed in deeds)

@@ -1,12 +1,11 @@
 """Flows: the rows of deeds that scenes come to."""
 
 from freestrung.bodies import BLOCKS
-from freestrung.deeds import neighbour
+from freestrung.deeds import MOST_DEEDS, fits_row, neighbour
 from freestrung.errors import BadPicture, TooLong, Unknown
-from freestrung.pictures import acted, fits, holds_in, is_picture, kept_picture
+from freestrung.pictures import holds_in, is_picture, kept_picture, picture_after
 
 MOST_COUNTS = 300
-MOST_DEEDS = 60
 MOST_WRITTEN = 2000
 
 
@@ -78,12 +77,12 @@ def flow(book, scene, picture):
             todo.extend(begun(body_due(book, picture, statement)))
         else:
             deed = deed_of(statement, picture[0])
-            if not fits(picture, deed):
+            if None in deed or not fits_row(picture[0], deed):
                 return Flow(tuple(deeds), picture, "spoilt")
             if len(deeds) == MOST_DEEDS:
                 return Flow(tuple(deeds), picture, "long")
             deeds.append(deed)
-            picture = acted(picture, deed)
+            picture = picture_after(picture, deed)
     return Flow(tuple(deeds), picture, "long" if len(todo) > 0 else "ends")
 
 

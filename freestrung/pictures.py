@@ -1,9 +1,9 @@
 """Pictures: what the hall sees of the stage, and what deeds make of it."""
 
-from freestrung.deeds import MOST_IN_ROW, fits_row, is_deed
+from freestrung.deeds import MOST_IN_ROW, fits_row, is_deed, led_along, row_behind
 from freestrung.errors import BadDeed
 from freestrung.forms import are_names, is_row, is_within
-from freestrung.rows import exchanged, lengthened, replaced, without
+from freestrung.rows import replaced
 
 
 def are_faces(thing, many):
@@ -70,20 +70,17 @@ def fits(picture, deed):
     return is_deed(deed) and fits_row(picture[0], deed)
 
 
+def picture_after(picture, deed):
+    """The picture behind a deed that fits."""
+    row, faces = picture
+    if deed[0] == "turn":
+        place = row.index(deed[1])
+        return row, replaced(faces, place, 1 - faces[place])
+    return row_behind(row, deed), led_along(row, deed, faces, 0)
+
+
 def acted(picture, deed):
     """The picture behind a deed."""
     if not fits(picture, deed):
         raise BadDeed(deed)
-    row, faces = kept_picture(picture)
-    if deed[0] == "enter":
-        return lengthened(row, deed[2], deed[1]), lengthened(faces, deed[2], 0)
-    if deed[0] in ("move", "rest"):
-        return row, faces
-    place = row.index(deed[1])
-    if deed[0] == "turn":
-        return row, replaced(faces, place, 1 - faces[place])
-    if deed[0] == "exit":
-        return without(row, place), without(faces, place)
-    if deed[3] == "left":
-        place = place - 1
-    return exchanged(row, place), exchanged(faces, place)
+    return picture_after(kept_picture(picture), deed)

@@ -5,6 +5,8 @@ import unittest
 
 from freestrung.casts import Cast
 from freestrung.errors import StrungError
+from freestrung.plans import Plan
+from freestrung.plays import Play
 from freestrung.scenes import Book
 
 NO_NAMES = (None, 7, True, "", "King", "ninelongs", "a b", "k1", "pass", "curtain", ("king",), ["king"], b"king")
@@ -71,3 +73,42 @@ def troupe():
 def book_of(*bodies):
     """A book of the cast of three, with scenes sa, sb, .. of these bodies."""
     return Book(troupe(), tuple(("s" + "abcdefg"[number], body) for number, body in enumerate(bodies)))
+
+
+def play_of(scenes, calls, *, first="a", ends=("a",), opening=((), ()), cast=None):
+    """A play of these scenes, told as a dict, and these calls, told as `"node scene node"`."""
+    plan = Plan(first, ends, tuple(tuple(call.split(" ")) for call in calls))
+    return Play(Book(cast or troupe(), tuple(scenes.items())), plan, opening)
+
+
+KQF = (("king", "queen", "fool"), (0, 0, 0))
+
+
+def mover(puppet):
+    """A body that brings a puppet to the right end, facing the front."""
+    return (("exit", puppet, "any"), ("enter", puppet, "right"))
+
+
+# Turns the three through all their faces, one after the other; the queen alone if the king is off.
+TURNING = (("if", ("on", "king"), (
+    ("turn", "king", "any"),
+    ("if", ("front", "king"), (
+        ("turn", "queen", "any"),
+        ("if", ("front", "queen"), (("turn", "fool", "any"),), ()),
+    ), ()),
+), (("turn", "queen", "any"),)),)
+
+WIDE_SCENES = {
+    "mk": mover("king"), "mq": mover("queen"), "mf": mover("fool"), "tt": TURNING,
+    "xk": (("exit", "king", "any"),), "clear": (("exit", "queen", "any"), ("exit", "fool", "any")),
+}
+
+
+def wide_calls(trios, pairs):
+    """Calls along nodes `ta`, `tb`, .. with 48 pictures each, and then `pa`, `pb`, .. with 8 each."""
+    letters = "abcdefghijklmnopqrstuvwxyz"
+    calls = [f"ta {scene} ta" for scene in ("mk", "mq", "mf", "tt")]
+    calls += [f"t{one} tt t{two}" for one, two in zip(letters[:trios - 1], letters[1:])]
+    calls += [f"t{letters[trios - 1]} xk pa"]
+    calls += [f"p{one} tt p{two}" for one, two in zip(letters[:pairs - 1], letters[1:])]
+    return calls

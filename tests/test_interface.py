@@ -34,6 +34,24 @@ standings standing_of(picture)
 standings is_free_standing(standing)
 standings picture_of(standing)
 standings lie_of(standing)
+sound judge_pictures(play, table)
+seen events(picture, deeds)
+seen shows_of(events)
+seen shows_in(play, row)
+scenealike endings(book, scene)
+showalike lot_of(play, events)
+showalike has_show(play, events)
+showalike show_counts(play, most)
+crossings crossings(lie)
+crossings unwinding(lie)
+wires strung(lie, wires, winds=None)
+wires unstrung(lie, wires)
+free led_to_end(lie, place, way, side='left')
+free hangs_apart(lie, side)
+free is_free(lie, place, way)
+cores exits(lie)
+cores core(lie)
+cores can_leave(lie, row)
 """
 
 OPERATORS = {
@@ -44,6 +62,9 @@ OPERATORS = {
     ("plans", "Plan"): "__getitem__ __contains__ __len__ __iter__ __eq__",
     ("plays", "Play"): "__eq__",
     ("lies", "Lie"): "__len__ __getitem__ __iter__ __eq__ __bool__ __mul__ __add__ __neg__",
+    ("sound", "Sound"): "__len__ __iter__ __bool__ __contains__",
+    ("scenealike", "SceneAlike"): "__bool__",
+    ("showalike", "PlayAlike"): "__bool__",
 }
 
 METHODS = """
@@ -76,6 +97,9 @@ lies Lie of(cords, crossings)
 lies Lie straight(cords)
 lies Lie rounded(cords, place)
 lies Lie is_one(thing)
+sound Sound __init__(self, play)
+scenealike SceneAlike __init__(self, book, scene, other, other_scene)
+showalike PlayAlike __init__(self, play, other)
 """
 
 PROPERTIES = """
@@ -86,10 +110,11 @@ plays Play beginning
 lies Lie tops
 lies Lie even
 lies Lie weight
+scenealike SceneAlike same
 """
 
 STATIC = (("Crew", "of"), ("Lie", "of"), ("Lie", "straight"), ("Lie", "rounded"), ("Lie", "is_one"))
-GENERATORS = (("pictures", "pictures"), ("holds", "holds"))
+GENERATORS = (("pictures", "pictures"), ("holds", "holds"), ("seen", "shows_of"), ("crossings", "unwinding"))
 
 
 def rows(text):
