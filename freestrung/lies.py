@@ -28,6 +28,15 @@ def judge_place(cords, place):
         raise BadPlace(place)
 
 
+def judge_places(cords, places):
+    """Raises BadPlace for the first of some places that is none, or not greater than the one ahead of it."""
+    lowest = 0
+    for place in places:
+        if not is_within(place, lowest, cords - 1):
+            raise BadPlace(place)
+        lowest = place + 1
+
+
 def judge_way(way):
     """Raises BadWay for what is no way."""
     if not is_one_of(way, WAYS):
@@ -118,10 +127,7 @@ class Lie:
 
     def thinned(self, places):
         """The lie of the cords of some places above alone."""
-        for number, place in enumerate(places):
-            lowest = 0 if number == 0 else places[number - 1] + 1
-            if not is_within(place, lowest, len(self.words) - 1):
-                raise BadPlace(place)
+        judge_places(len(self.words), places)
         return Lie(thinned_words(self.words, places))
 
     def twist(self, one, other):

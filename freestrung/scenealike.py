@@ -58,8 +58,6 @@ class SceneAlike:
 
 def endings(book, scene):
     """For each way to end, from how many pictures of the cast the flow ends so, and the least of them."""
-    if scene not in book:
-        raise Unknown(scene)
     found = {word: [] for word in ENDINGS}
     for picture in pictures(book.cast):
         found[flow(book, scene, picture).ended].append(picture)

@@ -1,9 +1,9 @@
 """Standings: pictures with all that does not show: how the cords are wound and lie, and what is held."""
 
 from freestrung.deeds import MOST_IN_ROW
-from freestrung.errors import BadPicture
+from freestrung.errors import BadPicture, BadStanding
 from freestrung.forms import are_names, is_row, is_whole, is_within
-from freestrung.holds import is_hold, is_lawful
+from freestrung.holds import is_hold, is_lawful, kept_hold
 from freestrung.lies import Lie
 from freestrung.pictures import are_faces, is_picture, kept_picture
 from freestrung.tangles import kept_words, straight_words
@@ -52,6 +52,15 @@ def wrong_part(thing, crew=None):
 def is_standing(thing, crew=None):
     """Whether a thing is a standing, for this crew if one is passed."""
     return wrong_part(thing, crew) is None
+
+
+def kept_standing(crew, thing):
+    """The standing as tuples; raises BadStanding for what is none for this crew."""
+    word = wrong_part(thing, crew)
+    if word is not None:
+        raise BadStanding(word)
+    row, faces, winds, words, hold = thing
+    return tuple(row), tuple(faces), tuple(winds), kept_words(words), kept_hold(hold)
 
 
 def standing_of(picture):

@@ -52,6 +52,24 @@ free is_free(lie, place, way)
 cores exits(lie)
 cores core(lie)
 cores can_leave(lie, row)
+snags hangs_straight(lie, places)
+snags snags(lie)
+snags hung_anew(lie)
+snags frees(lie, places)
+everylie test_lies(cords)
+covers able(crew, row, deed)
+costs costs(crew, row, deeds)
+costs judge_costs(crew, row, deeds, table)
+stretches stretches(crew, row, deeds)
+stretches fewest_players(crew, row, deeds)
+handlings why_not(crew, standing, deed, handling)
+handlings played(crew, standing, deed, handling)
+handlings handlings(crew, standing, deed)
+playings judge_playing(crew, standing, deeds, playing)
+playings play_on(crew, standing, deeds, playing)
+playings moves_of(crew, standing, deeds, playing)
+playings passings_of(crew, standing, deeds, playing)
+stages tried(stage, pairs)
 """
 
 OPERATORS = {
@@ -65,6 +83,11 @@ OPERATORS = {
     ("sound", "Sound"): "__len__ __iter__ __bool__ __contains__",
     ("scenealike", "SceneAlike"): "__bool__",
     ("showalike", "PlayAlike"): "__bool__",
+    ("everylie", "Passings"): "__call__ __len__ __iter__ __eq__ __add__",
+    ("everylie", "EveryLie"): "__bool__",
+    ("covers", "Cover"): "__bool__ __len__ __iter__",
+    ("stages", "Stage"): "__eq__",
+    ("stages", "Trial"): "__enter__ __exit__",
 }
 
 METHODS = """
@@ -100,6 +123,18 @@ lies Lie is_one(thing)
 sound Sound __init__(self, play)
 scenealike SceneAlike __init__(self, book, scene, other, other_scene)
 showalike PlayAlike __init__(self, play, other)
+everylie Passings __init__(self, cords, row)
+everylie Passings __call__(self, lie)
+everylie Passings back(self)
+everylie EveryLie __init__(self, first, second)
+everylie EveryLie parting(self)
+covers Cover __init__(self, crew, row, deeds, *, hold=None)
+stages Stage __init__(self, crew, standing)
+stages Stage put(self, standing)
+stages Stage do(self, deed, handling)
+stages Stage undo(self)
+stages Stage copy(self)
+stages Trial __init__(self, stage)
 """
 
 PROPERTIES = """
@@ -111,10 +146,16 @@ lies Lie tops
 lies Lie even
 lies Lie weight
 scenealike SceneAlike same
+everylie Passings places
+stages Stage standing
+stages Stage view
+stages Stage done
+stages Stage moves
 """
 
 STATIC = (("Crew", "of"), ("Lie", "of"), ("Lie", "straight"), ("Lie", "rounded"), ("Lie", "is_one"))
-GENERATORS = (("pictures", "pictures"), ("holds", "holds"), ("seen", "shows_of"), ("crossings", "unwinding"))
+GENERATORS = (("pictures", "pictures"), ("holds", "holds"), ("seen", "shows_of"), ("crossings", "unwinding"),
+              ("handlings", "handlings"))
 
 
 def rows(text):

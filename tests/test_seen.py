@@ -209,7 +209,9 @@ class EndingsTest(Case):
         body = (("if", ("back", "queen"), (("until", ("off", "queen"), ()),),
                  (("if", ("on", "king"), (("if", ("on", "fool"), long, (("exit", "king", "any"),)),),
                    (("turn", "fool", "any"),)),)),)
-        for book in (book_of(body), book_of(()), book_of(long), book_of((("exit", "king", "any"),))):
+        alone = (("if", ("on", "king"), (), (("if", ("on", "queen"), (), (("turn", "fool", "any"),)),)),)
+        alone = alone + (("if", ("on", "fool"), (), alone),)
+        for book in (book_of(body), book_of(()), book_of(long), book_of((("exit", "king", "any"),)), book_of(alone)):
             found = {"ends": [], "spoilt": [], "round": [], "long": []}
             for picture in pictures(book.cast):
                 found[flow(book, "sa", picture).ended].append(picture)
