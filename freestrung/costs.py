@@ -34,7 +34,7 @@ def judge_costs(crew, row, deeds, table):
     rows = rows_along(tuple(row), kept)
     able = [hands.able(here, deed) for here, deed in zip(rows, kept)]
     told = told_costs(table, able)
-    if any([len(here) < len(holds) for here, holds in zip(told, able)]):
+    if any([len(here) < len(those) for here, those in zip(told, able)]):
         return -1
     for number, entry in enumerate(table):
         if not is_cost_row(entry) or not 0 <= entry[0] < len(kept) or kept_hold(entry[1]) not in able[entry[0]]:

@@ -5,9 +5,6 @@ from freestrung.holds import behind, holds, is_alone, is_held, is_lawful, one_mo
 
 NEEDS_BAR = ("pass", "turn", "move", "exit")
 
-# With these ways of the bar above a deed asks least of the hold.
-EASIEST = {"pass": "behind", "turn": "still"}
-
 
 def hand_word(crew, row, deed, hold, top):
     """The word that is due for a deed done with a lawful hold and a way above, or None."""
@@ -15,7 +12,7 @@ def hand_word(crew, row, deed, hold, top):
         return "bar"
     if (deed[0] == "move" or top == "along") and not is_alone(hold, deed[1]):
         return "alone"
-    if deed[0] == "pass" and top == "before" and not is_held(hold, deed[2]):
+    if top == "before" and not is_held(hold, deed[2]):
         return "other"
     if not is_lawful(crew, row_behind(row, deed), behind(hold, deed)):
         return "reach"
@@ -65,7 +62,8 @@ class Hands:
 
     def hold_behind(self, row, deed, hold):
         """The hold behind a deed done with a lawful hold, or None if this is not able."""
-        return self.hold_left(row, deed, hold, EASIEST.get(deed[0]))
+        # Without a way above, a deed asks no more of the hold than with any.
+        return self.hold_left(row, deed, hold, None)
 
     def able(self, row, deed):
         """The able holds for a deed."""
