@@ -42,12 +42,39 @@ def read_opening(words):
     return words[1::2], tuple([FACES.index(word) for word in words[2::2]])
 
 
-def read_play(lines):
-    """The play of some lines."""
+def calls_at_line(lines, at, behind):
+    """The calls that begin at a line, and the number of the line behind them.
+
+    It must have one of the patterns told, or, if none are told, there must be no line behind them.
+    """
+    calls = []
+    while at < len(lines) or len(behind) > 0:
+        words = words_at(lines, at, CALL + behind)
+        if words[0] != "call":
+            break
+        calls.append(words[1:])
+        at += 1
+    return calls, at
+
+
+def play_parts(lines, behind):
+    """What the lines of a play tell, and the number of the line behind them, as for calls_at_line."""
     puppets, scenes, at = book_parts(lines, OPENING)
     opening = read_opening(words_at(lines, at, OPENING))
     first = words_at(lines, at + 1, FIRST)[1]
     ends = words_at(lines, at + 2, ends_patterns())[1:]
-    calls = [words_at(lines, place, CALL)[1:] for place in range(at + 3, len(lines))]
+    calls, last = calls_at_line(lines, at + 3, behind)
+    return (puppets, scenes, opening, first, ends, calls), last
+
+
+def play_made(parts):
+    """The play that some lines tell, once these have been read."""
+    puppets, scenes, opening, first, ends, calls = parts
     book = Book(Cast(puppets), scenes)
     return Play(book, Plan(first, ends, calls), opening)
+
+
+def read_play(lines):
+    """The play of some lines."""
+    parts, _ = play_parts(lines, ())
+    return play_made(parts)

@@ -3,7 +3,15 @@
 from freestrung.hands import Hands, hand_word
 from freestrung.holds import is_lawful, kept_hold
 from freestrung.pictures import picture_after
-from freestrung.ways import cord_word, follows_script, is_handling, ways_of, winds_behind, words_behind
+from freestrung.ways import NONE, TOPS, cord_word, follows_script, is_handling, ways_of, winds_behind, words_behind
+
+
+class Stand:
+    """A standing that a rig has come to, and the ways on from it that were found."""
+
+    def __init__(self, held):
+        self.held = held
+        self.ways = {}
 
 
 class Rig:
@@ -13,6 +21,8 @@ class Rig:
         self.crew = crew
         self.hands = Hands(crew)
         self.led = {}
+        self.handed = {}
+        self.stands = {}
 
     def cords_led(self, row, winds, words, deed):
         """For each pair of ways in which cords let a deed be done, in order, the winds and words behind it."""
@@ -25,18 +35,46 @@ class Rig:
             ]
         return self.led[key]
 
+    def holds_left(self, row, hold, deed):
+        """The hold behind a deed for each way above with which a hold lets it be done."""
+        left = {top: self.hands.hold_left(row, deed, hold, top) for top in TOPS.get(deed[0], NONE)}
+        return {top: other for top, other in left.items() if other is not None}
+
+    def hands_led(self, row, hold, deed):
+        """For each hold that can be had in time, in order, how far it is, the hold, and the holds behind a deed."""
+        key = (row, hold, deed)
+        if key not in self.handed:
+            near = self.hands.near(row, hold)
+            self.handed[key] = [(moves, other, self.holds_left(row, other, deed)) for moves, other in near]
+        return self.handed[key]
+
     def steps(self, standing, deed):
         """For each handling of a deed, in order, how far its hold is, the handling, and the standing behind it."""
         row, faces, winds, words, hold = standing
         picture = picture_after((row, faces), deed)
         led = self.cords_led(row, winds, words, deed)
         found = []
-        for moves, other in self.hands.near(row, hold):
+        for moves, other, left in self.hands_led(row, hold, deed):
             for top, shown, winds_left, words_left in led:
-                hold_left = self.hands.hold_left(row, deed, other, top)
-                if hold_left is not None:
-                    found.append((moves, (other, top, shown), picture + (winds_left, words_left, hold_left)))
+                if top in left:
+                    found.append((moves, (other, top, shown), picture + (winds_left, words_left, left[top])))
         return found
+
+    def stand(self, standing):
+        """The one Stand of a standing, so that it is found again without a look at all its parts."""
+        if standing not in self.stands:
+            self.stands[standing] = Stand(standing)
+        return self.stands[standing]
+
+    def ways_on(self, stand, deed):
+        """For each standing behind a deed, as first found, how far the hold is, the handling, and its Stand."""
+        if deed not in stand.ways:
+            found = {}
+            for moves, handling, standing in self.steps(stand.held, deed):
+                # Nearer holds come first, so the first handling that leads somewhere has the fewest moves, too.
+                found.setdefault(self.stand(standing), (moves, handling))
+            stand.ways[deed] = [(moves, handling, after) for after, (moves, handling) in found.items()]
+        return stand.ways[deed]
 
     def word_due(self, standing, deed, handling):
         """The word that is due for a handling, whatever it is, of a deed that fits, or None."""

@@ -31,9 +31,9 @@ class Flows:
         return self.play.plan.calls[call][2], shown.picture
 
 
-def explored(play):
+def pairs_explored(flows):
     """The table of a sound play and None; otherwise None and the least row whose last flow does not end."""
-    flows = Flows(play)
+    play = flows.play
     rows = {(play.plan.first, play.opening): ()}
     todo = list(rows)
     while len(todo) > 0:
@@ -50,12 +50,17 @@ def explored(play):
     return tuple(list(rows)), None
 
 
-def sound_table(play):
-    """The table of a sound play; raises Spoilt for another one."""
-    table, row = explored(play)
+def sound_pairs(flows):
+    """The table of a sound play, whose flows are told; raises Spoilt for another one."""
+    table, row = pairs_explored(flows)
     if row is not None:
         raise Spoilt(row)
     return table
+
+
+def sound_table(play):
+    """The table of a sound play; raises Spoilt for another one."""
+    return sound_pairs(Flows(play))
 
 
 def kept_pair(pair):
@@ -67,7 +72,7 @@ class Sound:
     """Whether a play is sound, and what tells that."""
 
     def __init__(self, play):
-        table, row = explored(play)
+        table, row = pairs_explored(Flows(play))
         self.table = table
         self.row = row
         self.pairs = () if table is None else table

@@ -2,14 +2,9 @@
 
 from freestrung.errors import Unplayable
 from freestrung.handlings import kept_deed
-from freestrung.holds import kept_hold
 from freestrung.rigs import Rig
 from freestrung.standings import kept_standing, picture_of
-
-
-def kept_handling(handling):
-    """The handling as tuples."""
-    return kept_hold(handling[0]), handling[1], handling[2]
+from freestrung.ways import kept_handling
 
 
 class Stage:

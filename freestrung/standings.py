@@ -54,13 +54,18 @@ def is_standing(thing, crew=None):
     return wrong_part(thing, crew) is None
 
 
+def kept_parts(standing):
+    """The standing as tuples."""
+    row, faces, winds, words, hold = standing
+    return tuple(row), tuple(faces), tuple(winds), kept_words(words), kept_hold(hold)
+
+
 def kept_standing(crew, thing):
     """The standing as tuples; raises BadStanding for what is none for this crew."""
     word = wrong_part(thing, crew)
     if word is not None:
         raise BadStanding(word)
-    row, faces, winds, words, hold = thing
-    return tuple(row), tuple(faces), tuple(winds), kept_words(words), kept_hold(hold)
+    return kept_parts(thing)
 
 
 def standing_of(picture):

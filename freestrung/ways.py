@@ -3,7 +3,7 @@
 from freestrung.deeds import led_along, passed_at
 from freestrung.forms import is_one_of, is_row
 from freestrung.free import is_free_cord
-from freestrung.holds import is_hold
+from freestrung.holds import is_hold, kept_hold
 from freestrung.rows import replaced
 from freestrung.tangles import (
     crossed_above, crossed_below, letters_in, other_way, set_off, straight_words, thinned_words, twist_of,
@@ -24,6 +24,11 @@ def is_handling(deed, thing):
     if not is_row(thing) or len(thing) != 3 or not is_hold(thing[0]):
         return False
     return is_choice(thing[1], TOPS.get(deed[0], NONE)) and is_choice(thing[2], SHOWNS.get(deed[0], NONE))
+
+
+def kept_handling(handling):
+    """The handling as tuples."""
+    return kept_hold(handling[0]), handling[1], handling[2]
 
 
 def follows_script(deed, shown):

@@ -93,6 +93,7 @@ def bound_in(function):
     """All names that a function binds, its parameters included."""
     names = [part.arg for part in parameters(function)]
     names += [node.id for node in ast.walk(function) if isinstance(node, ast.Name) and isinstance(node.ctx, ast.Store)]
+    names += [node.name for node in ast.walk(function) if isinstance(node, ast.ExceptHandler) and node.name]
     return names
 
 
