@@ -112,3 +112,71 @@ def wide_calls(trios, pairs):
     calls += [f"t{letters[trios - 1]} xk pa"]
     calls += [f"p{one} tt p{two}" for one, two in zip(letters[:pairs - 1], letters[1:])]
     return calls
+
+
+def chain(names, scenes):
+    """Calls of these scenes, from each of some nodes to the next one."""
+    return [f"{one} {scene} {other}" for one, scene, other in zip(names, scenes, names[1:])]
+
+
+def node_names(many):
+    """So many names of nodes."""
+    letters = "abcdefghijklmnopqrstuvwxyz"
+    return [one + other for one in "uvw" for other in letters][:many]
+
+
+# Seven winds and twelve holds of a crew as strong as this one.
+STRONG = {"players": 3, "reach": 1, "beats": 3, "winds": 3}
+WINDING = {"t": (("turn", "king", "any"),) * 3 + (("rest",),) * 2, "e": ()}
+
+
+def winding_play(ahead, behind):
+    """A play with so many nodes of one standing, and then so many nodes of 84 standings each, one after the other."""
+    names = node_names(ahead + behind)
+    scenes = ["e"] * (ahead - 1) + ["t"] + ["e"] * (behind - 1)
+    return play_of(WINDING, chain(names, scenes), first=names[0], ends=names[-1:], opening=KQF)
+
+
+QUARTET = (("king", "queen", "fool", "ghost"), (0, 0, 0, 0))
+
+
+def turned_if_on(name, otherwise=()):
+    return (("if", ("on", name), (("turn", name, "any"), ("rest",)), otherwise),)
+
+
+# Each call of these has deeds of the same kinds wherever it is played in a calm play.
+CALM = {
+    "tk": turned_if_on("king"), "tf": turned_if_on("fool"), "tg": turned_if_on("ghost"), "e": (),
+    "tq": turned_if_on("queen", (("enter", "queen", "left"), ("pass", "queen", "right", "before"))),
+    "x": (("if", ("on", "ghost"), (("exit", "ghost", "any"), ("rest",)), (
+        *(("exit", name, "any") for name in KQF[0]), ("enter", "king", "left"), ("turn", "king", "any"), ("rest",))),),
+}
+
+
+def calm_play(full, singles, last=()):
+    """A play with so many nodes of 16 pictures, one of 8, and so many of one picture, one after the other.
+
+    The scenes of `last` are called behind that. Ends are all nodes from the first one of one picture on.
+    """
+    names = node_names(full + 1 + singles + len(last))
+    scenes = ["tk"] + ["e"] * (full - 2) + ["x"] * (1 + bool(singles)) + ["e"] * (singles - 1) + list(last)
+    calls = [f"{names[0]} {scene} {names[0]}" for scene in ("tk", "tq", "tf", "tg")]
+    cast = Cast(TROUPE + (("ghost", ("veil",)),))
+    return play_of(CALM, calls + chain(names, scenes), first=names[0], ends=names[full + bool(singles):],
+                   opening=QUARTET, cast=cast)
+
+
+def fork_play(ahead=1):
+    """A play in which, behind so many rests, either the two puppets to the left or those to the right are to pass.
+
+    One player, who moves one bar at a time, must know which of them in time.
+    """
+    names = node_names(ahead + 1) + ["z"]
+    scenes = {"r": (("rest",),), "kq": (("pass", "king", "right", "before"),), "fg": (("pass", "fool", "right", "before"),)}
+    calls = chain(names[:-1], ["r"] * ahead) + [f"{names[ahead]} {scene} z" for scene in ("kq", "fg")]
+    cast = Cast(TROUPE + (("ghost", ("veil",)),))
+    return play_of(scenes, calls, first=names[0], ends=("z",), opening=QUARTET, cast=cast)
+
+
+# The one player of fork plays.
+ALONE = {"players": 1, "reach": 1, "beats": 1, "bears": 0, "winds": 0}

@@ -70,6 +70,35 @@ playings play_on(crew, standing, deeds, playing)
 playings moves_of(crew, standing, deeds, playing)
 playings passings_of(crew, standing, deeds, playing)
 stages tried(stage, pairs)
+outcomes outcomes(crew, standing, deeds)
+outcomes lot_behind(crew, lot, deeds)
+outcomes cheap_outcomes(crew, standing, deeds)
+clearing judge_lot(crew, lot)
+evenings evenings(play, most)
+evenings evening_counts(play, most)
+evenings lot_after(play, crew, row)
+known judge_lots(play, crew, table)
+arena positions(play, crew)
+arena answers(play, crew, position, call)
+arena may_end(play, crew, position)
+judges judge_crew(play, crew, table)
+judges judge_caller(play, crew, table)
+notice fewest_notice(play, crew)
+leastcrews crews_between(low, high)
+leastcrews least_crews(play, low, high)
+mends possible_mends(book)
+mends mended(book, mends)
+mends fewest_mends(play, crew, most)
+prompts write_prompt(table)
+prompts read_prompt(lines)
+nights prompted(night, prompter, calls)
+falls fallen(crew, position)
+falls judge_falls(play, crew, most, table)
+falls most_falls(play, crew)
+orders judge_prices(book, crew, standing, scenes, table)
+journal write_journal(night)
+journal read_journal(lines)
+journal taken_up(lines)
 """
 
 OPERATORS = {
@@ -88,6 +117,15 @@ OPERATORS = {
     ("covers", "Cover"): "__bool__ __len__ __iter__",
     ("stages", "Stage"): "__eq__",
     ("stages", "Trial"): "__enter__ __exit__",
+    ("clearing", "Clearing"): "__bool__ __len__ __iter__",
+    ("known", "Known"): "__bool__ __len__ __iter__",
+    ("fixed", "Fixed"): "__bool__ __len__ __iter__",
+    ("called", "Called"): "__bool__ __getitem__ __len__ __iter__ __contains__",
+    ("notice", "Noticed"): "__len__ __iter__",
+    ("prompts", "Prompter"): "__call__ __len__ __iter__ __contains__",
+    ("nights", "Night"): "__eq__",
+    ("falls", "Falls"): "__bool__ __len__ __iter__",
+    ("orders", "Cheapest"): "__bool__ __len__ __iter__",
 }
 
 METHODS = """
@@ -135,6 +173,23 @@ stages Stage do(self, deed, handling)
 stages Stage undo(self)
 stages Stage copy(self)
 stages Trial __init__(self, stage)
+clearing Clearing __init__(self, crew, standing)
+known Known __init__(self, play, crew)
+fixed Fixed __init__(self, play, crew, playings)
+called Called __init__(self, play, crew)
+called Called rank(self, position)
+notice Noticed __init__(self, play, scenes)
+notice Noticed meaning_of(self, node)
+prompts Prompter __init__(self, play, crew, table)
+prompts Prompter __call__(self, position, call)
+nights Night __init__(self, play, crew)
+nights Night call(self, number)
+nights Night do(self, handling)
+nights Night play_call(self, number, playing)
+nights Night curtain(self)
+nights Night copy(self)
+falls Falls __init__(self, play, crew, most)
+orders Cheapest __init__(self, book, crew, standing, scenes)
 """
 
 PROPERTIES = """
@@ -151,11 +206,16 @@ stages Stage standing
 stages Stage view
 stages Stage done
 stages Stage moves
+nights Night at
+nights Night due
+nights Night log
+nights Night events
+nights Night over
 """
 
 STATIC = (("Crew", "of"), ("Lie", "of"), ("Lie", "straight"), ("Lie", "rounded"), ("Lie", "is_one"))
 GENERATORS = (("pictures", "pictures"), ("holds", "holds"), ("seen", "shows_of"), ("crossings", "unwinding"),
-              ("handlings", "handlings"))
+              ("handlings", "handlings"), ("evenings", "evenings"), ("leastcrews", "crews_between"))
 
 
 def rows(text):
