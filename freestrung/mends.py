@@ -6,6 +6,7 @@ from freestrung.errors import BadMends, BadMost, TooMany
 from freestrung.forms import is_row, is_whole, is_within
 from freestrung.houses import Script
 from freestrung.scenes import Book
+from freestrung.sound import sound_table
 
 MOST_MENDS = 16
 MOST_AT_ONCE = 2
@@ -81,15 +82,13 @@ def sets_of_mends(possible, most):
 
 def fewest_mends(play, crew, most):
     """The fewest mends, at most so many, with which a crew can play every evening, called; None if there are none."""
-    script = Script(play)
+    sound_table(play)
     if not is_within(most, 0, MOST_AT_ONCE):
         raise BadMost(most)
     possible = possible_mends(play.book)
     if len(possible) > MOST_MENDS:
         raise TooMany("mend")
     for mends in sets_of_mends(possible, most):
-        if len(mends) > 0:
-            script = Script(play.changed(book=mended(play.book, mends)))
-        if can_play(script, crew):
+        if can_play(Script(play.changed(book=mended(play.book, mends))), crew):
             return mends
     return None

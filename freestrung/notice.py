@@ -23,35 +23,24 @@ def node_name(number):
     return "n" + ALPHABET[number // len(ALPHABET)] + ALPHABET[number % len(ALPHABET)]
 
 
-def rows_from(plan, node, many):
-    """All rows of just so many calls from a node on, ascending."""
-    if many == 0:
-        yield ()
-    else:
-        for call in plan.calls_at(node):
-            for row in rows_from(plan, plan.calls[call][2], many - 1):
-                yield (call,) + row
-
-
 def node_at_end(plan, node, row):
     """The node to which a row of calls leads that begins at a node."""
     return node if len(row) == 0 else plan.calls[row[-1]][2]
 
 
-def windows_at(plan, node, scenes):
-    """The windows at a node, with notice of so many scenes: the shut ones, then the open ones.
+def rows_from(plan, node, many):
+    """All rows of just so many calls from a node on, ascending."""
+    rows = [()]
+    for _ in range(many):
+        rows = [row + (call,) for row in rows for call in plan.calls_at(node_at_end(plan, node, row))]
+    return rows
 
-    Of more windows than a plan can have nodes, only the first ones are told, one too many.
-    """
-    found = []
-    for many in range(scenes + 1):
-        shut = many < scenes
-        for row in rows_from(plan, node, many):
-            if len(found) > MOST_NODES:
-                break
-            if not shut or plan.is_end(node_at_end(plan, node, row)):
-                found.append((node, row, shut))
-    return found
+
+def windows_at(plan, node, scenes):
+    """All windows at a node, with notice of so many scenes: the shut ones, then the open ones."""
+    ending = [row for many in range(scenes) for row in rows_from(plan, node, many)
+              if plan.is_end(node_at_end(plan, node, row))]
+    return [(node, row, True) for row in ending] + [(node, row, False) for row in rows_from(plan, node, scenes)]
 
 
 def windows_behind(plan, window):

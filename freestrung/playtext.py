@@ -43,12 +43,9 @@ def read_opening(words):
 
 
 def calls_at_line(lines, at, behind):
-    """The calls that begin at a line, and the number of the line behind them.
-
-    It must have one of the patterns told, or, if none are told, there must be no line behind them.
-    """
+    """The calls that begin at a line, and the number of the line behind them, which may have these patterns."""
     calls = []
-    while at < len(lines) or len(behind) > 0:
+    while at < len(lines):
         words = words_at(lines, at, CALL + behind)
         if words[0] != "call":
             break

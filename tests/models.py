@@ -2,6 +2,7 @@
 
 import functools
 
+from freestrung.crews import Crew
 from freestrung.errors import TooMany
 from freestrung.handlings import handlings, played
 from freestrung.playings import judge_playing, play_on
@@ -12,7 +13,6 @@ from freestrung.standings import is_free_standing, is_standing, picture_of, stan
 @functools.lru_cache(None)
 def ways_of(numbers, standing, deed):
     """All handlings with the standings behind them, for a crew told by its numbers."""
-    from freestrung.crews import Crew
     crew = Crew.of(numbers)
     return tuple((way, played(crew, standing, deed, way)) for way in handlings(crew, standing, deed))
 

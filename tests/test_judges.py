@@ -102,6 +102,13 @@ class JudgeCrewTest(Case):
         for row in (("a", king(1), (None,)), ("b", king(0), (None, None)), ("a", standing_of((("queen",), (0,))), (None,)),
                     ("a", standing_of(((), ())), (None,))):
             self.assertEqual(judge_crew(self.play(), Crew(1), table + (row,)), 3)
+        # Nothing else is wrong with it.
+        short = play_of(TURNED, ["a e b"], ends=("b",), opening=KING)
+        begun = king(hold=())
+        table = (("a", begun, ((),)), ("b", begun, ()))
+        self.assertIsNone(judge_crew(short, Crew(1), table))
+        for standing in (king(1), standing_of((("queen",), (0,))), standing_of(((), ()))):
+            self.assertEqual(judge_crew(short, Crew(1), table + (("b", standing, ()),)), 2)
 
     def test_a_playing_that_leads_out(self):
         table = self.table()

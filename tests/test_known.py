@@ -194,6 +194,14 @@ class JudgeTest(Case):
         self.assertEqual(judge_lots(play, Crew(1), table[:2] + (("c", (end[:4] + ((),), end)),)), 1)
         self.assertIsNone(judge_lots(play, Crew(1), table + (("c", (end[:4] + ((),), end)),)))
 
+    def test_a_lot_with_two_pictures(self):
+        """Each of its standings has a picture that rows lead to, but not the same one."""
+        play = play_of({"t": LEFT, "e": ()}, ["a t b", "a e b"], ends=("b",), opening=KING)
+        front, back = standing_of(KING), standing_of((("king",), (1,)))
+        table = (("a", (front,)), ("b", (front,)), ("b", (back[:4] + ((("king",),),),)))
+        self.assertIsNone(judge_lots(play, Crew(1), table))
+        self.assertEqual(judge_lots(play, Crew(1), table + (("b", (front, back)),)), 3)
+
     def test_too_many_outcomes(self):
         turns = tuple(("turn", name, "any") for name in KQF[0])
         play = play_of({"t": (("repeat", 3, turns),), "e": ()}, ["a e a", "a t b", "b e a"], opening=KQF)

@@ -154,6 +154,14 @@ class FewestTest(Case):
         self.assertEqual(fewest_mends(play, crew, 2), (("open", "s", 0),))
         self.assertTrue(only_tuples(fewest_mends(play, crew, 2)))
 
+    def test_two_mends_of_one_statement(self):
+        """One hand comes to the king's bar a deed too late, and passes it behind the queen's only."""
+        scenes = {"s": (("turn", "queen", "left"), ("pass", "king", "right", "before"))}
+        play = play_of(scenes, ["a s b"], ends=("b",), opening=TWO)
+        crew = Crew(1, reach=0, winds=0)
+        self.assertIsNone(fewest_mends(play, crew, 1))
+        self.assertEqual(fewest_mends(play, crew, 2), (("open", "s", 1), ("rest", "s", 1)))
+
     def test_against_all_sets(self):
         seen = {}
         for _, play, crew in sound_plays(152, 700, 2, "ab"):

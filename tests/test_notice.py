@@ -134,6 +134,10 @@ class NoticedTest(Case):
         for many in range(4):
             self.due(BadBook("scenes"), Noticed, play_of(scenes, ["a sa a"]), many)
         self.due(BadMost(4), Noticed, play_of(scenes, ["a sa a"]), 4)
+        # Too many nodes come behind.
+        nodes = [one + other for one in "uv" for other in "abcdefghijklmnopqrstuvwxyz"][:40]
+        long = play_of(scenes, [f"{one} sa {other}" for one, other in zip(nodes, nodes[1:])], first="ua", ends=nodes[-1:])
+        self.due(BadBook("scenes"), Noticed, long, 0)
 
     def test_forty_nodes(self):
         letters = "abcdefghijklmnopqrstuvwxyz"
@@ -145,7 +149,7 @@ class NoticedTest(Case):
                 self.assertEqual(Noticed(play, 0).named[-1], named(many))
             else:
                 self.due(names, Noticed, play, 0)
-        # With all rows of three calls there are far too many, which are not gone through.
+        # With rows of several calls there are far too many.
         wide = play_of({"x": (), "y": (), "z": ()}, [f"a {scene} {one}" for scene in "xyz" for one in nodes[:39]] + [
             f"{one} x a" for one in nodes[:3]], ends=("a",) + tuple(nodes[3:39]), first="a")
         for many in (1, 2, 3):

@@ -147,6 +147,15 @@ class CheapestTest(Case):
         cheapest = Cheapest(book(scenes), Crew(1), standing_of(TWO), ("bad", "come"))
         self.assertEqual((cheapest.order, cheapest.price), (("come", "bad"), 1))
 
+    def test_dearer_ways_that_lead_to_no_end(self):
+        """Behind the exit the king cannot turn, whatever more was done with the queen's bar."""
+        scenes = {"x": (("exit", "king", "any"),), "t": (("turn", "king", "any"),)}
+        here = TWO + ((0, 0), ((1,), (2,)), (("king",),))
+        for players in (1, 2, 3):
+            cheapest = Cheapest(book(scenes), Crew(players), here, ("x", "t"))
+            self.assertEqual((cheapest.price, cheapest.order), (0, ("t", "x")))
+            self.assertEqual([[way[0] for way in playing] for playing in cheapest.playings], [[(("king",),)]] * 2)
+
     def test_against_all_orders(self):
         told = [0, 0]
         for _, stories, crew, standing, scenes, cheapest in matinees(120, 90):
@@ -281,6 +290,15 @@ class JudgeTest(Case):
                                 ((), here[:4], 0), ((), here, None), ((), here, False), ((), here, "0"), (0, here, 0)):
             self.assertEqual(judge_prices(*given, table + (thing, thing)), len(table))
         self.assertIsNone(judge_prices(*given, table + (((), here, 0), ([], listed(here), 0))))
+
+    def test_numbers_that_are_there_twice(self):
+        given = (book(), Crew(1), standing_of(TWO), ("e", "r"))
+        table = Cheapest(*given).table
+        self.assertIsNone(judge_prices(*given, table))
+        here = given[2]
+        self.assertIn(((), here, 0), table)
+        for left in ((0, 0), (1, 1), (0, 0, 1)):
+            self.assertEqual(judge_prices(*given, table + ((left, here, 0),)), len(table))
 
     def test_the_first_such_row_counts(self):
         given = self.small()
